@@ -35,10 +35,10 @@ func TestP1NilCluster(t *testing.T) {
 
 // Every call at every mix of odd numbers: none panics, and a refusal tells nothing and changes nothing.
 func TestP1AllNumbers(t *testing.T) {
-	numbers := []int{least, -1, 0, 1, 2, 4, 5, 50, 60, 99, 100, 255, 256, most}
+	numbers := []int{least, -1, 0, 1, 2, 3, 4, 5, 50, 60, 99, 100, 255, 256, most}
 	c := New()
 	checkProduce(t, c, 1, 1, 1, 0, false)
-	c.nodes[3].up = false
+	crash(t, c, 3)
 	for _, a := range numbers {
 		for _, b := range numbers {
 			checkPair(t, c, a, b)
@@ -70,6 +70,14 @@ func checkPair(t *testing.T, c *Cluster, a, b int) {
 	if e := d.Deliver(a); e != api.OK {
 		unchanged(t, d, c)
 	}
+	d = copyOf(c)
+	if e := d.Crash(a); e != api.OK {
+		unchanged(t, d, c)
+	}
+	d = copyOf(c)
+	if e := d.Restart(a); e != api.OK {
+		unchanged(t, d, c)
+	}
 }
 
 func checkTriple(t *testing.T, c *Cluster, a, b, x int) {
@@ -87,8 +95,9 @@ func checkTriple(t *testing.T, c *Cluster, a, b, x int) {
 	}
 }
 
-// A long disorderly run: every call ends, the list and the logs keep their bounds, what is done stays,
-// and every member's log is the beginning of the leader's.
+// A long disorderly run, in which all nodes but the leader go down and come up again: every call ends,
+// the list and the logs keep their bounds, what is done stays, and every member's log is the beginning
+// of the leader's.
 func TestP1LongRun(t *testing.T) {
 	for seed := range 20 {
 		c := New()
@@ -110,6 +119,10 @@ func TestP1LongRun(t *testing.T) {
 				c.Drop(pick % 50)
 			case pick%11 == 3:
 				c.Twice(pick % 50)
+			case pick%13 == 4:
+				c.Crash(1 + pick%4)
+			case pick%13 == 5 || pick%13 == 6:
+				c.Restart(1 + pick%4)
 			default:
 				c.Deliver(pick % max(1, len(c.underWay)))
 			}

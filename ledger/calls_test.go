@@ -50,7 +50,7 @@ func TestP4Edges(t *testing.T) {
 
 func TestP4OrderOfErrors(t *testing.T) {
 	c := New()
-	c.nodes[4].up = false
+	crash(t, c, 4)
 	for _, node := range []int{least, -1, api.Nodes, most} {
 		checkRefused(t, c, node, 0, 0, -1, api.ErrNode)
 		checkRefused(t, c, node, 1, 1, 1, api.ErrNode)
@@ -75,7 +75,7 @@ func TestP4OrderOfErrors(t *testing.T) {
 		checkRefused(t, c, 0, 1, 1, 1, api.ErrLeader)
 	}
 	c.nodes[0].role = api.Serving
-	c.nodes[0].up = false
+	crash(t, c, 0)
 	checkRefused(t, c, 0, 1, 1, 1, api.ErrDown)
 }
 
@@ -158,7 +158,7 @@ func TestP4AloneIsDoneAtOnce(t *testing.T) {
 
 func TestP5Fetch(t *testing.T) {
 	c := New()
-	c.nodes[4].up = false
+	crash(t, c, 4)
 	checkProduce(t, c, 1, 1, 10, 0, false)
 	deliverAll(t, c)
 	checkProduce(t, c, 1, 2, 20, 1, false)

@@ -111,6 +111,20 @@ func drop(t *testing.T, c *Cluster, list ...int) {
 	}
 }
 
+func crash(t *testing.T, c *Cluster, node int) {
+	t.Helper()
+	if e := c.Crash(node); e != api.OK {
+		t.Fatalf("Crash(%d) = %d", node, e)
+	}
+}
+
+func restart(t *testing.T, c *Cluster, node int) {
+	t.Helper()
+	if e := c.Restart(node); e != api.OK {
+		t.Fatalf("Restart(%d) = %d", node, e)
+	}
+}
+
 // deliverAll delivers in order until nothing is under way.
 func deliverAll(t *testing.T, c *Cluster) {
 	t.Helper()

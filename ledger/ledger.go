@@ -148,6 +148,11 @@ func (c *Cluster) Crash(node int) api.Errno {
 	if c == nil {
 		return api.ErrNil
 	}
+	refusal := c.refusalOfNode(node)
+	if refusal != api.OK {
+		return refusal
+	}
+	c.goDown(node)
 	return api.OK
 }
 
@@ -156,6 +161,13 @@ func (c *Cluster) Restart(node int) api.Errno {
 	if c == nil {
 		return api.ErrNil
 	}
+	if !isNode(node) {
+		return api.ErrNode
+	}
+	if c.nodes[node].up {
+		return api.ErrUp
+	}
+	c.nodes[node].up = true
 	return api.OK
 }
 

@@ -100,11 +100,11 @@ func TestP6DownLosesIt(t *testing.T) {
 	c := New()
 	checkProduce(t, c, 1, 1, 1, 0, false)
 	deliver(t, c, 0)
-	c.nodes[2].up = false
+	crash(t, c, 2)
 	deliver(t, c, 0)
 	checkWay(t, c, "Ack:1>0@1/1")
 	checkNode(t, c, 2, api.Node{Epoch: 1, Installed: 1})
-	c.nodes[0].up = false
+	crash(t, c, 0)
 	deliver(t, c, 0)
 	checkWay(t, c, "")
 	if c.nodes[0].known[1] != 0 {

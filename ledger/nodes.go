@@ -57,6 +57,12 @@ func (c *Cluster) refusalToWrite(node int, producer int, seq int, value int) api
 	return api.OK
 }
 
+// goDown makes the node anew of what outlasts a crash, so that it comes up leading nothing and knowing of nobody.
+func (c *Cluster) goDown(node int) {
+	n := c.nodes[node]
+	c.nodes[node] = nodeState{up: false, role: api.Idle, follows: n.follows, given: n.given, log: n.log}
+}
+
 // offsetOf is where the record of this producer with this Seq stands in the log, or -1.
 func offsetOf(log []api.Record, producer int, seq int) int {
 	for i, r := range log {

@@ -35,15 +35,25 @@ func TestP1NilCluster(t *testing.T) {
 
 // Every call at every mix of odd numbers: none panics, and a refusal tells nothing and changes nothing.
 func TestP1AllNumbers(t *testing.T) {
-	numbers := []int{least, -1, 0, 1, 2, 3, 4, 5, 50, 60, 99, 100, 255, 256, most}
-	c := New()
-	checkProduce(t, c, 1, 1, 1, 0, false)
-	crash(t, c, 3)
-	for _, a := range numbers {
-		for _, b := range numbers {
-			checkPair(t, c, a, b)
-			for _, d := range numbers {
-				checkTriple(t, c, a, b, d)
+	numbers := []int{least, -1, 0, 1, 2, 3, 4, 5, 31, 32, 50, 60, 99, 100, 255, 256, most}
+	fresh := New()
+	checkProduce(t, fresh, 1, 1, 1, 0, false)
+	crash(t, fresh, 3)
+	handing := copyOf(fresh)
+	reconfigure(t, handing, 22, 4)
+	deliver(t, handing, 2, 2, 4)
+	checkWay(t, handing, "Append:0>1@1/0 Append:0>2@1/0 Read:4>1@2/0 Read:4>2@2/0 State:4>1@2/1 State:4>2@2/1")
+	late := copyOf(fresh)
+	for range api.MaxEpochs - 1 {
+		reconfigure(t, late, 16, 4)
+	}
+	for _, c := range []*Cluster{fresh, handing, late} {
+		for _, a := range numbers {
+			for _, b := range numbers {
+				checkPair(t, c, a, b)
+				for _, d := range numbers {
+					checkTriple(t, c, a, b, d)
+				}
 			}
 		}
 	}
@@ -76,6 +86,14 @@ func checkPair(t *testing.T, c *Cluster, a, b int) {
 	}
 	d = copyOf(c)
 	if e := d.Restart(a); e != api.OK {
+		unchanged(t, d, c)
+	}
+	d = copyOf(c)
+	if e := d.Reconfigure(a, b); e != api.OK {
+		unchanged(t, d, c)
+	}
+	d = copyOf(c)
+	if e := d.Remind(); e != api.OK {
 		unchanged(t, d, c)
 	}
 }

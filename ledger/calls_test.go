@@ -14,9 +14,7 @@ func TestP3New(t *testing.T) {
 	checkNode(t, c, 2, api.Node{Up: true, Epoch: 1, Installed: 1, Role: api.Idle})
 	checkNode(t, c, 3, api.Node{Up: true, Role: api.Idle})
 	checkNode(t, c, 4, api.Node{Up: true, Role: api.Idle})
-	if len(c.epochs) != 1 || c.epochs[0].members != [api.Nodes]bool{true, true, true, false, false} {
-		t.Errorf("epochs: %+v", c.epochs)
-	}
+	checkConfig(t, c, 1, 7, 0, 1)
 }
 
 func TestExamples(t *testing.T) {
@@ -32,6 +30,35 @@ func TestExamples(t *testing.T) {
 	checkWay(t, c, "")
 	checkProduce(t, c, 1, 1, 9, 0, true)
 	checkFetch(t, c, 0, 0, rec(1, 1, 65), api.OK)
+
+	reconfigure(t, c, 24, 4)
+	checkWay(t, c, "Start:-1>4@2/0")
+	deliver(t, c, 0)
+	checkWay(t, c, "Read:4>0@2/0 Read:4>1@2/0 Read:4>2@2/0")
+	deliver(t, c, 1)
+	checkNode(t, c, 1, api.Node{Up: true, Epoch: 2, Installed: 1, Role: api.Idle, Len: 1})
+	checkWay(t, c, "Read:4>0@2/0 Read:4>2@2/0 Log:1>4@2/1")
+	deliver(t, c, 2)
+	checkNode(t, c, 4, api.Node{Up: true, Epoch: 2, Installed: 2, Role: api.Sending, Len: 1})
+	checkWay(t, c, "Read:4>0@2/0 Read:4>2@2/0 State:4>3@2/1")
+	deliver(t, c, 2)
+	checkWay(t, c, "Read:4>0@2/0 Read:4>2@2/0 Have:3>4@2/0")
+	deliver(t, c, 2)
+	checkWay(t, c, "Read:4>0@2/0 Read:4>2@2/0 Ready:4>-1@2/0")
+	deliver(t, c, 2)
+	checkWay(t, c, "Read:4>0@2/0 Read:4>2@2/0 Serve:-1>4@2/0")
+	deliver(t, c, 2)
+	checkConfig(t, c, 2, 24, 4, 2)
+	checkFetch(t, c, 4, 0, rec(1, 1, 65), api.OK)
+
+	checkProduce(t, c, 1, 2, 66, 1, false)
+	checkWay(t, c, "Read:4>0@2/0 Read:4>2@2/0 Append:0>1@1/1 Append:0>2@1/1")
+	deliver(t, c, 3, 2, 2)
+	checkWay(t, c, "Read:4>0@2/0 Read:4>2@2/0")
+	checkNode(t, c, 1, api.Node{Up: true, Epoch: 2, Installed: 1, Role: api.Idle, Len: 1})
+	checkNode(t, c, 2, api.Node{Up: true, Epoch: 1, Installed: 1, Role: api.Idle, Len: 2})
+	checkProduce(t, c, 1, 2, 66, 1, false)
+	checkFetch(t, c, 0, 1, api.Record{}, api.ErrEmpty)
 }
 
 func TestP4Edges(t *testing.T) {
@@ -148,7 +175,7 @@ func TestP4NewRecordGoesToAll(t *testing.T) {
 
 func TestP4AloneIsDoneAtOnce(t *testing.T) {
 	c := New()
-	c.epochs[0].members = [api.Nodes]bool{true}
+	moveTo(t, c, 1, 0)
 	checkProduce(t, c, 1, 1, 10, 0, true)
 	checkProduce(t, c, 1, 2, 20, 1, true)
 	checkProduce(t, c, 1, 1, 30, 0, true)

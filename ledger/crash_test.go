@@ -41,7 +41,9 @@ func TestP9WhatOutlastsACrash(t *testing.T) {
 			c := New()
 			checkProduce(t, c, 1, 1, 1, 0, false)
 			log := []api.Record{rec(2, 1, 4), rec(2, 2, 5)}
-			c.nodes[node] = nodeState{up: true, follows: 7, given: 5, role: role, log: log, known: [api.Nodes]int{1, 2, 1, 2, 1}}
+			c.nodes[node] = nodeState{up: true, follows: 7, given: 5, role: role, log: log}
+			c.nodes[node].haveLog = [api.Nodes]bool{true, true, false, true, true}
+			c.nodes[node].known = [api.Nodes]int{1, 2, 1, 2, 1}
 			want := copyOf(c)
 			crash(t, c, node)
 			want.nodes[node] = nodeState{follows: 7, given: 5, role: api.Idle, log: log}

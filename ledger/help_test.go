@@ -39,28 +39,28 @@ func unchanged(t *testing.T, c, before *Cluster) {
 
 func checkWay(t *testing.T, c *Cluster, want string) {
 	t.Helper()
+	names := []string{"?", "Start", "Read", "Log", "State", "Have", "Ready", "Serve", "Append", "Ack"}
 	list, e := c.Messages()
 	var texts []string
 	for _, m := range list {
-		kind := fmt.Sprint(m.Kind)
-		switch m.Kind {
-		case api.Append:
-			kind = "Append"
-		case api.Ack:
-			kind = "Ack"
-		}
-		texts = append(texts, fmt.Sprintf("%s:%d>%d@%d/%d", kind, m.From, m.To, m.Epoch, m.N))
+		texts = append(texts, fmt.Sprintf("%s:%d>%d@%d/%d", names[m.Kind], m.From, m.To, m.Epoch, m.N))
 	}
 	if got := strings.Join(texts, " "); e != api.OK || got != want {
 		t.Errorf("under way: %q, %d, want %q", got, e, want)
 	}
 }
 
+// checkProduce is of node 0, which leads a new cluster.
 func checkProduce(t *testing.T, c *Cluster, producer, seq, value, at int, done bool) {
 	t.Helper()
-	k, d, e := c.Produce(0, producer, seq, value)
+	checkProduceAt(t, c, 0, producer, seq, value, at, done)
+}
+
+func checkProduceAt(t *testing.T, c *Cluster, node, producer, seq, value, at int, done bool) {
+	t.Helper()
+	k, d, e := c.Produce(node, producer, seq, value)
 	if k != at || d != done || e != api.OK {
-		t.Errorf("Produce(0, %d, %d, %d) = %d, %v, %d, want %d, %v, OK", producer, seq, value, k, d, e, at, done)
+		t.Errorf("Produce(%d, %d, %d, %d) = %d, %v, %d, want %d, %v, OK", node, producer, seq, value, k, d, e, at, done)
 	}
 }
 
@@ -91,6 +91,30 @@ func checkNode(t *testing.T, c *Cluster, node int, want api.Node) {
 		t.Errorf("Node(%d) = %+v, %d, want %+v, OK", node, n, e, want)
 	}
 	unchanged(t, c, before)
+}
+
+func checkConfig(t *testing.T, c *Cluster, epoch, members, leader, active int) {
+	t.Helper()
+	before := copyOf(c)
+	want := api.Config{Epoch: epoch, Members: members, Leader: leader, Active: active}
+	if g, e := c.Config(); g != want || e != api.OK {
+		t.Errorf("Config() = %+v, %d, want %+v, OK", g, e, want)
+	}
+	unchanged(t, c, before)
+}
+
+func reconfigure(t *testing.T, c *Cluster, members, leader int) {
+	t.Helper()
+	if e := c.Reconfigure(members, leader); e != api.OK {
+		t.Fatalf("Reconfigure(%d, %d) = %d", members, leader, e)
+	}
+}
+
+func remind(t *testing.T, c *Cluster) {
+	t.Helper()
+	if e := c.Remind(); e != api.OK {
+		t.Fatalf("Remind() = %d", e)
+	}
 }
 
 func deliver(t *testing.T, c *Cluster, list ...int) {
@@ -135,6 +159,13 @@ func deliverAll(t *testing.T, c *Cluster) {
 		deliver(t, c, 0)
 	}
 	t.Fatal("something is under way for ever")
+}
+
+// moveTo makes an epoch and delivers in order until nothing is under way.
+func moveTo(t *testing.T, c *Cluster, members, leader int) {
+	t.Helper()
+	reconfigure(t, c, members, leader)
+	deliverAll(t, c)
 }
 
 // fill makes a log of MaxLog records, of which all members have all.

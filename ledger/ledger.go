@@ -7,22 +7,23 @@ import "ledger/api"
 type Cluster struct {
 	nodes    [api.Nodes]nodeState
 	epochs   []epochState // the epoch e stands at e-1
+	active   int          // the number of the active epoch
 	underWay []message
 }
 
 // New makes a cluster (P3).
 func New() *Cluster {
-	c := &Cluster{}
-	first := epochState{members: [api.Nodes]bool{true, true, true}}
+	c := &Cluster{active: 1}
+	first := epochState{members: 1<<0 + 1<<1 + 1<<2, leader: 0}
 	c.epochs = append(c.epochs, first)
 	for i := range c.nodes {
 		c.nodes[i].up = true
-		if first.members[i] {
+		if isAmong(first.members, i) {
 			c.nodes[i].follows = 1
 			c.nodes[i].given = 1
 		}
 	}
-	c.nodes[0].role = api.Serving
+	c.nodes[first.leader].role = api.Serving
 	return c
 }
 
@@ -176,6 +177,14 @@ func (c *Cluster) Reconfigure(members int, leader int) api.Errno {
 	if c == nil {
 		return api.ErrNil
 	}
+	if !areMembers(members) || !isAmong(members, leader) {
+		return api.ErrMembers
+	}
+	if len(c.epochs) >= api.MaxEpochs {
+		return api.ErrEpochs
+	}
+	c.epochs = append(c.epochs, epochState{members: members, leader: leader, previous: c.active})
+	c.sendToLeader(api.Start)
 	return api.OK
 }
 
@@ -184,6 +193,10 @@ func (c *Cluster) Remind() api.Errno {
 	if c == nil {
 		return api.ErrNil
 	}
+	if c.active == len(c.epochs) {
+		return api.ErrActive
+	}
+	c.sendToLeader(api.Start)
 	return api.OK
 }
 
@@ -192,5 +205,7 @@ func (c *Cluster) Config() (api.Config, api.Errno) {
 	if c == nil {
 		return api.Config{}, api.ErrNil
 	}
-	return api.Config{}, api.OK
+	newest := len(c.epochs)
+	e := c.epoch(newest)
+	return api.Config{Epoch: newest, Members: e.members, Leader: e.leader, Active: c.active}, api.OK
 }

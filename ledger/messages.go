@@ -33,12 +33,28 @@ func (c *Cluster) takeOut(i int) message {
 	return taken
 }
 
-// takeIn is a message's arrival at its receiver (P8).
+// takeIn is a message's arrival at its receiver (P8, P11).
 func (c *Cluster) takeIn(m message) {
-	if !isNode(m.to) || !c.nodes[m.to].up {
+	if m.to == api.Master {
+		c.takeInReady(m) // no other kind goes to the master
+		return
+	}
+	if !isNode(m.to) || !c.nodes[m.to].up || c.nodes[m.to].follows > m.epoch {
 		return
 	}
 	switch m.kind {
+	case api.Start:
+		c.takeInStart(m)
+	case api.Read:
+		c.takeInRead(m)
+	case api.Log:
+		c.takeInLog(m)
+	case api.State:
+		c.takeInState(m)
+	case api.Have:
+		c.takeInHave(m)
+	case api.Serve:
+		c.takeInServe(m)
 	case api.Append:
 		c.takeInAppend(m)
 	case api.Ack:

@@ -219,13 +219,8 @@ func TestP8AckRefused(t *testing.T) {
 // Another leader and other members than those of a new cluster: what is sent goes by the node's epoch.
 func TestP8OtherMembers(t *testing.T) {
 	c := New()
-	c.epochs = append(c.epochs, epochState{members: [api.Nodes]bool{true, false, false, true, true}})
-	c.nodes[0] = nodeState{up: true, follows: 2, given: 2}
-	c.nodes[3] = nodeState{up: true, follows: 2, given: 2, role: api.Serving}
-	c.nodes[4] = nodeState{up: true, follows: 2, given: 2}
-	if k, d, e := c.Produce(3, 1, 1, 5); k != 0 || d || e != api.OK {
-		t.Errorf("Produce = %d, %v, %d", k, d, e)
-	}
+	moveTo(t, c, 25, 3)
+	checkProduceAt(t, c, 3, 1, 1, 5, 0, false)
 	checkWay(t, c, "Append:3>0@2/0 Append:3>4@2/0")
 	deliver(t, c, 1, 1)
 	checkFetch(t, c, 3, 0, api.Record{}, api.ErrEmpty)

@@ -9,12 +9,8 @@ type nodeState struct {
 	given   int // the last epoch whose log it was given, 0: none
 	role    int
 	log     []api.Record
-	known   [api.Nodes]int // while it is Serving: how many records each other member has told to have
-}
-
-// epochState is what the master knows of an epoch.
-type epochState struct {
-	members [api.Nodes]bool
+	haveLog [api.Nodes]bool // while it is Sending: which other members are known to have the log
+	known   [api.Nodes]int  // while it is Serving: how many records each other member is known to have
 }
 
 func isNode(node int) bool {
@@ -63,6 +59,12 @@ func (c *Cluster) goDown(node int) {
 	c.nodes[node] = nodeState{up: false, role: api.Idle, follows: n.follows, given: n.given, log: n.log}
 }
 
+// follow leaves behind what the node knew as a leader: it holds for the epoch that it followed before alone.
+func (c *Cluster) follow(node int, e int, role int) {
+	n := c.nodes[node]
+	c.nodes[node] = nodeState{up: n.up, role: role, follows: e, given: n.given, log: n.log}
+}
+
 // offsetOf is where the record of this producer with this Seq stands in the log, or -1.
 func offsetOf(log []api.Record, producer int, seq int) int {
 	for i, r := range log {
@@ -75,11 +77,11 @@ func offsetOf(log []api.Record, producer int, seq int) int {
 
 // isOtherMember tells whether other, a node, keeps the log beside this node in the epoch that this node follows.
 func (c *Cluster) isOtherMember(node int, other int) bool {
-	e := c.nodes[node].follows
-	if other == node || e < 1 || e > len(c.epochs) {
+	if other == node {
 		return false
 	}
-	return c.epochs[e-1].members[other]
+	e := c.epoch(c.nodes[node].follows)
+	return isAmong(e.members, other)
 }
 
 // done is how many records every member has, as far as this node, which is Serving, was told.
